@@ -1,0 +1,1 @@
+"""Stepposts: who moves up, told by words that go round within words."""
