@@ -1,5 +1,9 @@
 """Things that are no names, no dicts and no trees, for the tests of refusals."""
 
+import unittest
+
+from stepposts.errors import PostError
+
 
 class Sly:
     """Is equal to all, and stands for a name where a dict looks it up."""
@@ -9,6 +13,14 @@ class Sly:
 
     def __hash__(self):
         return hash("a")
+
+
+class UnderList(list):
+    """Is no list alone."""
+
+
+class UnderTuple(tuple):
+    """Is no tuple alone."""
 
 
 # Of every kind but texts and dicts.
@@ -28,6 +40,10 @@ OTHER_TEXTS = [
 
 NO_NAMES = OTHER_KINDS + [{}, {"a": None}] + OTHER_TEXTS
 
+# Truths and all else that is no whole number, and whole numbers below 0.
+NO_WHOLES = [thing for thing in NO_NAMES if not isinstance(thing, int) or isinstance(thing, bool)]
+BELOW_NONE = [-1, -2, -1000, -10 ** 59]
+
 NAMES = ["a", "z", "m", "abcdefgh", "ijklmnop", "qrstuvwx", "yz", "zzzzzzzz", "none", "true"]
 
 
@@ -38,3 +54,16 @@ def can_be_key(thing):
     except TypeError:
         return False
     return True
+
+
+class RefusalCase(unittest.TestCase):
+    def assert_refused(self, kind, ask, *args, **named):
+        """Assert that asking is refused by this class, and not by one under it."""
+        with self.assertRaises(PostError) as caught:
+            ask(*args, **named)
+        self.assertIs(type(caught.exception), kind)
+
+    def assert_all_refused(self, kind, ask, things):
+        for thing in things:
+            with self.subTest(thing=repr(thing)):
+                self.assert_refused(kind, ask, thing)

@@ -1,7 +1,7 @@
 import unittest
 
-from odd_things import NAMES, NO_NAMES
-from stepposts.kinds import is_name, is_whole
+from odd_things import NAMES, NO_NAMES, UnderList, UnderTuple
+from stepposts.kinds import is_list, is_name, is_tuple, is_whole
 
 
 class Names(unittest.TestCase):
@@ -40,6 +40,26 @@ class WholeNumbers(unittest.TestCase):
             if type(thing) is not int:
                 with self.subTest(thing=repr(thing)):
                     self.assertIs(is_whole(thing), False)
+
+
+class ListsAndTuples(unittest.TestCase):
+    def test_a_list_is_a_list_alone(self):
+        for thing in [[], [1], [[]], ["a", None]]:
+            self.assertIs(is_list(thing), True)
+        for thing in NO_NAMES + NAMES + [UnderList(), UnderList(["a"]), UnderTuple()]:
+            if type(thing) is not list:
+                with self.subTest(thing=repr(thing)):
+                    self.assertIs(is_list(thing), False)
+
+    def test_a_tuple_is_a_tuple_alone_of_the_length(self):
+        for thing in [(), (1,), ("a", None), (1, 2, 3)]:
+            for length in range(5):
+                self.assertIs(is_tuple(thing, length), len(thing) == length)
+        for thing in NO_NAMES + NAMES + [UnderTuple(), UnderTuple("a"), UnderTuple("ab"), UnderList("ab")]:
+            if type(thing) is not tuple:
+                for length in range(3):
+                    with self.subTest(thing=repr(thing), length=length):
+                        self.assertIs(is_tuple(thing, length), False)
 
 
 if __name__ == "__main__":
