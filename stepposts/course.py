@@ -63,8 +63,7 @@ class Course:
     def way(self, folk):
         """Tell all posts that a folk ever holds, as tuples (post, first, behind)."""
         self._checked_folk(folk)
-        posts = [post for post, _ in self._served(folk)]
-        return _stretches(_came(folk), posts)
+        return _stretches(_came(folk), [post for post, _ in self._served(folk)])
 
     def comes_to(self, year):
         """Tell the post to which the newcomer of a year comes, ahead of the year's deeds."""
@@ -81,8 +80,7 @@ class Course:
     def in_branch(self, folk, post):
         """Tell the years, from the orderly one on, in which a folk stands in a post's branch."""
         self._checked_folk(folk)
-        checked_post(self._tree, post)
-        branch = self._tree.branch(post)
+        branch = self._tree.branch(checked_post(self._tree, post))
         since = max(_came(folk), self._orderly)
         served = self._served(folk)[since - _came(folk):]
         inside = [True if held in branch else None for held, _ in served]
@@ -96,7 +94,6 @@ class Course:
     def _checked_folk(self, folk):
         if not self._is_folk(folk):
             raise NoFolk("none of the course's folk")
-        return folk
 
     def _is_folk(self, folk):
         if is_name(folk):
@@ -128,9 +125,10 @@ class Course:
         return folk[year - self._orderly:] + [(came, 0) for came in range(first, year + 1)]
 
     def _standing_behind(self, year, standing):
-        """Give what stands in the year behind, as far ones are told slower one by one."""
+        """Give what stands in the year behind this one."""
         if year < self._orderly:
             return self._walk.standings[year + 1]
+        # Quicker than by words, where years are asked for one behind another.
         return behind_leave(self._tree, standing, self._tree.head(), (year + 1, 0))
 
     def _served(self, folk):

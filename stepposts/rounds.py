@@ -19,9 +19,10 @@ def meetings(tree, words, others):
 
 
 def _meeting(word, other, below):
-    """Give it of one post, where it is known of those right below, each by its own turns."""
-    if not word:
-        return 0, 1
+    """Give it of one post, where it is known of those right below, each by its own turns.
+
+    The word of a post with none below is empty, so it is the same again at each turn.
+    """
     step = _least_round(word)
     # Each letter that goes to the end is a turn of the post that it names.
     shifts = [turns for turns in range(step) if turned(word, turns) == other]

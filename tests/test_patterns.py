@@ -161,8 +161,13 @@ class ByWords(unittest.TestCase):
         told = by_words(tree, folk, words)
         self.assertEqual((folk, words), kept)
         told.clear()
-        self.assertEqual(by_words(tree, folk, words), standing)
+        told = by_words(tree, folk, words)
+        self.assertEqual(told, standing)
         self.assertEqual((folk, words), kept)
+        folk.reverse()
+        words["root"].reverse()
+        words.clear()
+        self.assertEqual(told, standing)
 
     def test_other_orders_of_the_dict_tell_the_same(self):
         standing = orderly_standing(random.Random(74), STEPS)
